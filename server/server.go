@@ -3,7 +3,10 @@ package server
 
 import (
 	"pursebearer/api"
+	"pursebearer/ctx"
 	"pursebearer/dedup"
+	"pursebearer/fair"
+	"pursebearer/split"
 )
 
 // What becomes of an attempt.
@@ -22,31 +25,139 @@ type Out struct {
 }
 
 // Server is an endpoint.
-type Server struct{}
+type Server struct {
+	s     api.Service
+	t     *dedup.Table
+	down  bool
+	warms bool // whether it was up behind a crash
+	upAt  int
+	frail
+}
+
+// frail is what a crash takes.
+type frail struct {
+	queue *fair.Queue
+	waits map[int]api.Ctx // by the number of its item
+	came  map[string]bool
+	works []work
+	ended int
+	items int
+}
+
+// work is an attempt at which it works, and how many ticks are left.
+type work struct {
+	c    api.Ctx
+	left int
+}
 
 // New is an endpoint of a service.
-func New(s api.Service, t *dedup.Table) *Server { return nil }
+func New(s api.Service, t *dedup.Table) *Server {
+	s.Kids = nil
+	return &Server{s: s, t: t, frail: fresh(s.Queue)}
+}
+
+func fresh(most int) frail {
+	return frail{queue: fair.New(most), waits: map[int]api.Ctx{}, came: map[string]bool{}}
+}
 
 // Come is an attempt that comes: false: it came already. What is shed for it, or itself, fails at once.
-func (s *Server) Come(now int, c api.Ctx) (outs []Out, fresh bool) { return nil, false }
+func (s *Server) Come(now int, c api.Ctx) (outs []Out, fresh bool) {
+	name := ctx.Span(c)
+	if s.down || s.came[name] {
+		return nil, false
+	}
+	s.came[name] = true
+	s.items++
+	s.waits[s.items] = c
+	shed, is := s.queue.Put(api.Item{ID: s.items, Prio: c.Prio, Flow: c.Req})
+	if is {
+		outs = append(outs, Out{What: Failed, C: s.leave(shed.ID), E: api.ErrFull})
+	}
+	return outs, true
+}
+
+// leave tells the attempt of an item that waits no more.
+func (s *Server) leave(item int) api.Ctx {
+	c := s.waits[item]
+	delete(s.waits, item)
+	return c
+}
 
 // Step lets a tick pass: sick, lazy and paused as faults say (sick: each so many-th work fails; lazy: work takes so many times as long, from its beginning on; 1: as ever).
-func (s *Server) Step(now int, paused bool, sick, lazy int) []Out { return nil }
+func (s *Server) Step(now int, paused bool, sick, lazy int) []Out {
+	if s.down || paused {
+		return nil
+	}
+	outs := s.work(now, sick)
+	for len(s.works) < s.Slots(now) {
+		x, ok := s.queue.Take()
+		if !ok {
+			break
+		}
+		c := s.leave(x.ID)
+		if now >= c.Deadline {
+			outs = append(outs, Out{What: Failed, C: c, E: api.ErrLate})
+			continue
+		}
+		s.works = append(s.works, work{c, s.s.Work * lazy})
+		outs = append(outs, Out{What: Began, C: c})
+	}
+	return outs
+}
+
+// work works for a tick at all at which it works.
+func (s *Server) work(now, sick int) []Out {
+	var outs []Out
+	var going []work
+	for _, w := range s.works {
+		if w.left--; w.left > 0 {
+			going = append(going, w)
+			continue
+		}
+		outs = append(outs, s.end(now, w.c, sick))
+	}
+	s.works = going
+	return outs
+}
+
+// end is what becomes of an attempt whose work ended.
+func (s *Server) end(now int, c api.Ctx, sick int) Out {
+	s.ended++
+	if split.Each(sick, s.ended) {
+		return Out{What: Failed, C: c, E: api.ErrFail}
+	}
+	return Out{What: Worked, C: c, Effect: !c.Shadow && (c.Idem || s.t.Put(now, ctx.Key(c)))}
+}
 
 // Crash loses all.
-func (s *Server) Crash(now int) {}
+func (s *Server) Crash(now int) {
+	s.down = true
+	s.frail = fresh(s.s.Queue)
+}
 
 // Down tells whether it is down; Up lets it begin anew, with one slot.
-func (s *Server) Down() bool { return false }
+func (s *Server) Down() bool { return s.down }
 
 // Up lets it begin anew.
-func (s *Server) Up(now int) {}
+func (s *Server) Up(now int) {
+	if s.down {
+		s.down, s.warms, s.upAt = false, true, now
+	}
+}
 
 // Waiting is how many wait; Working how many it works at; Slots how many it may.
-func (s *Server) Waiting() int { return 0 }
+func (s *Server) Waiting() int { return s.queue.Len() }
 
 // Working is how many it works at.
-func (s *Server) Working() int { return 0 }
+func (s *Server) Working() int { return len(s.works) }
 
 // Slots is how many it may work at, at a tick.
-func (s *Server) Slots(now int) int { return 0 }
+func (s *Server) Slots(now int) int {
+	switch {
+	case s.down:
+		return 0
+	case !s.warms || s.s.Warm == 0:
+		return s.s.Slots
+	}
+	return min(s.s.Slots, 1+(now-s.upAt)/s.s.Warm)
+}
