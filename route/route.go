@@ -5,6 +5,7 @@ import (
 	"slices"
 
 	"pursebearer/api"
+	"pursebearer/copies"
 	"pursebearer/match"
 	"pursebearer/rewrite"
 	"pursebearer/split"
@@ -68,21 +69,12 @@ func New(l []api.Rule, rates int) (*Table, api.Errno) {
 		if e := Check(r, rates); e != api.OK {
 			return nil, e
 		}
-		t.rules = append(t.rules, clone(r))
+		t.rules = append(t.rules, copies.Rule(r))
 		t.row = append(t.row, i)
 	}
 	// Stable, so that of rules that are alike the one with the least number stays ahead.
 	slices.SortStableFunc(t.row, func(a, b int) int { return match.Cmp(l[a].M, l[b].M) })
 	return t, api.OK
-}
-
-// clone is a rule in memory of its own.
-func clone(r api.Rule) api.Rule {
-	r.M.Heads = append([]api.Head(nil), r.M.Heads...)
-	r.Parts = append([]api.Part(nil), r.Parts...)
-	r.Set = append([]api.Head(nil), r.Set...)
-	r.Drop = append([]string(nil), r.Drop...)
-	return r
 }
 
 // Find is the rule of a request.
@@ -100,7 +92,7 @@ func (t *Table) Rule(n int) api.Rule {
 	if n < 0 || n >= len(t.rules) {
 		return api.Rule{}
 	}
-	return clone(t.rules[n])
+	return copies.Rule(t.rules[n])
 }
 
 // On are the rules by which some request of a path may go.

@@ -5,6 +5,7 @@ import (
 	"slices"
 
 	"pursebearer/api"
+	"pursebearer/copies"
 	"pursebearer/match"
 	"pursebearer/outlier"
 	"pursebearer/ring"
@@ -100,7 +101,7 @@ func New(version int, c api.Conf) (*Snap, api.Errno) {
 	if e := Check(c); e != api.OK {
 		return nil, e
 	}
-	c = clone(c)
+	c = copies.Conf(c)
 	t, e := route.New(c.Rules, len(c.Rates))
 	if e != api.OK {
 		return nil, e
@@ -117,30 +118,10 @@ func New(version int, c api.Conf) (*Snap, api.Errno) {
 	return s, api.OK
 }
 
-// clone is a configuration in memory of its own.
-func clone(c api.Conf) api.Conf {
-	c.Services = append([]api.Service(nil), c.Services...)
-	for i := range c.Services {
-		c.Services[i].Kids = append([]string(nil), c.Services[i].Kids...)
-	}
-	c.Ends = append([]api.End(nil), c.Ends...)
-	c.Rates = append([]api.Rate(nil), c.Rates...)
-	c.Rules = append([]api.Rule(nil), c.Rules...)
-	for i := range c.Rules {
-		r := &c.Rules[i]
-		r.M.Heads = append([]api.Head(nil), r.M.Heads...)
-		r.Parts = append([]api.Part(nil), r.Parts...)
-		r.Set = append([]api.Head(nil), r.Set...)
-		r.Drop = append([]string(nil), r.Drop...)
-	}
-	return c
-}
-
 // Service is a service.
 func (s *Snap) Service(id int) (api.Service, bool) {
 	x, ok := s.services[id]
-	x.Kids = append([]string(nil), x.Kids...)
-	return x, ok
+	return copies.Service(x), ok
 }
 
 // Ends are a service's endpoints, by their IDs.
