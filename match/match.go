@@ -39,8 +39,13 @@ func Check(m api.Match) api.Errno {
 }
 
 // Fits tells whether a request is one of those that it is for.
-func Fits(m api.Match, path string, l []api.Head) bool {
-	return On(m, path) && !slices.ContainsFunc(m.Heads, func(h api.Head) bool {
+func Fits(m api.Match, path string, heads []api.Head) bool {
+	return On(m, path) && answers(heads, m.Heads)
+}
+
+// answers tells whether heads have all that are asked.
+func answers(l, asked []api.Head) bool {
+	return !slices.ContainsFunc(asked, func(h api.Head) bool {
 		v, ok := heads.Get(l, h.Name)
 		return !ok || h.Value != "" && v != h.Value
 	})

@@ -151,7 +151,8 @@ func (m *Mesh) hand() {
 	}
 	for _, version := range m.plane.Drop() {
 		delete(m.limiters, version)
-		for _, p := range m.proxies {
+		for n, p := range m.proxies {
+			delete(m.sent, [2]int{n, version})
 			p.Drop(version)
 		}
 	}

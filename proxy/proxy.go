@@ -8,7 +8,6 @@ import (
 	"pursebearer/alarm"
 	"pursebearer/api"
 	"pursebearer/cert"
-	"pursebearer/ctx"
 	"pursebearer/draw"
 	"pursebearer/snap"
 	"pursebearer/split"
@@ -46,7 +45,7 @@ type Proxy struct {
 
 	flows    map[int]*flow // calls that are under way, by their numbers, which are their alarms'
 	started  int
-	leaseful []*flow // those that wait for a lease
+	leasing []*flow // those that wait for a lease
 	alarms   *alarm.Alarms
 
 	attempts map[int]*attempt // that are its own, by their items
@@ -110,7 +109,7 @@ func (p *Proxy) Call(now int, c api.Ctx, path string, heads []api.Head, zone int
 		t.admit(f)
 	default:
 		t.say(Act{What: Asks, C: c, N: rate})
-		p.leaseful = append(p.leaseful, f)
+		p.leasing = append(p.leasing, f)
 	}
 	return t.acts
 }
@@ -124,14 +123,14 @@ func (p *Proxy) Lease(now, version, rate, n int) []Act {
 	}
 	v.clients[rate-1].Give(now, n)
 	var waited, others []*flow
-	for _, f := range p.leaseful {
+	for _, f := range p.leasing {
 		if f.v == v && f.rule.Rate == rate {
 			waited = append(waited, f)
 		} else {
 			others = append(others, f)
 		}
 	}
-	p.leaseful = others
+	p.leasing = others
 	for _, f := range waited {
 		if v.clients[rate-1].Use(now) {
 			t.admit(f)
@@ -147,7 +146,7 @@ func (p *Proxy) known(number int) *version {
 	if v := p.versions[number]; v != nil {
 		return v
 	}
-	for _, f := range p.leaseful {
+	for _, f := range p.leasing {
 		if f.v.Version == number {
 			return f.v
 		}
@@ -206,6 +205,3 @@ func (p *Proxy) Well(service int) []int {
 	}
 	return v.ids(service)
 }
-
-// name is an attempt's name.
-func name(a *attempt) string { return ctx.Span(a.c) }

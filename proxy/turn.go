@@ -97,7 +97,7 @@ func (t *turn) letIn(f *flow, told call.Act) {
 	t.items++
 	a := &attempt{c: told.C, f: f, item: t.items, gated: true, waits: true}
 	t.attempts[a.item] = a
-	t.names[name(a)] = a.item
+	t.names[a.name()] = a.item
 	what, other, is := f.v.part(f.service).gate.Enter(api.Item{ID: a.item, Prio: a.c.Prio, Flow: a.c.Req})
 	switch {
 	case what == admit.Runs:
@@ -203,7 +203,7 @@ func (t *turn) drop(f *flow, told call.Act) {
 // forget is that an attempt is the proxy's no more.
 func (t *turn) forget(a *attempt) *part {
 	delete(t.attempts, a.item)
-	delete(t.names, name(a))
+	delete(t.names, a.name())
 	part := a.f.v.part(a.f.service)
 	if a.sent {
 		part.free(a.end)

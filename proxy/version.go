@@ -116,3 +116,6 @@ type attempt struct {
 	end   int // to which endpoint, and when
 	at    int
 }
+
+// name is what the attempt is called.
+func (a *attempt) name() string { return ctx.Span(a.c) }

@@ -81,9 +81,11 @@ func conf(w words, c *api.Conf) {
 
 func service(w words, s *api.Service) {
 	w.number(&s.ID)
-	list(w, &s.Kids, words.text)
+	list(w, &s.Kids, text)
 	numbers(w, &s.Work, &s.Slots, &s.Queue, &s.Balance, &s.Warm)
 }
+
+func text(w words, s *string) { w.text(s) }
 
 func head(w words, h *api.Head) {
 	w.text(&h.Name)
@@ -98,7 +100,7 @@ func rule(w words, r *api.Rule) {
 	numbers(w, &r.Mirror, &r.Inject.Abort, &r.Inject.Delay, &r.Inject.Ticks)
 	w.text(&r.Prefix)
 	list(w, &r.Set, head)
-	list(w, &r.Drop, words.text)
+	list(w, &r.Drop, text)
 	p := &r.P
 	numbers(w, &p.Timeout, &p.Tries, &p.Back, &p.Hedge, &p.Budget.Per, &p.Budget.Of, &p.Budget.Burst, &r.Rate)
 }

@@ -25,11 +25,11 @@ type Snap struct {
 	empty    *ring.Ring // of all services that are not there
 }
 
-// service is the ID of a service.
-type service int
+// owner is the ID of a service, as the one that has endpoints.
+type owner int
 
 // has tells whether an endpoint is the service's.
-func (s service) has(e api.End) bool { return e.Service == int(s) }
+func (o owner) has(e api.End) bool { return e.Service == int(o) }
 
 // Check tells how a configuration is wrong.
 func Check(c api.Conf) api.Errno {
@@ -125,8 +125,8 @@ func (s *Snap) Service(id int) (api.Service, bool) {
 }
 
 // Ends are a service's endpoints, by their IDs.
-func (s *Snap) Ends(id int) []api.End {
-	return those(s.C.Ends, service(id).has)
+func (s *Snap) Ends(service int) []api.End {
+	return those(s.C.Ends, owner(service).has)
 }
 
 // those are the endpoints of which something is so, by their IDs.
