@@ -341,6 +341,18 @@ func TestResent(t *testing.T) {
 	}
 }
 
+func TestNacked(t *testing.T) {
+	// The version 2 comes to the proxy 3 behind the version 3: it is refused there, and never live.
+	m := made(t, two(), fault(api.Slow, 5, 6, 200, 3, 20), api.Line{Do: api.DoPublish, At: 5, C: two()}, api.Line{Do: api.DoPublish, At: 10, C: two()})
+	m.Run(40)
+	if m.proxies[3].Has(2) || !m.proxies[3].Has(3) || m.plane.Live() != 3 || m.plane.Ack(3, 2) != api.ErrTwice {
+		t.Error(m.plane.Live())
+	}
+	if s, ok := m.plane.Snap(2); s != nil || ok || len(m.sent) != 11 {
+		t.Error("dropped", len(m.sent))
+	}
+}
+
 func TestRates(t *testing.T) {
 	c := two()
 	c.Rates = []api.Rate{{Limit: 2, Window: 50, Slice: 1}}

@@ -43,10 +43,10 @@ type Proxy struct {
 	had      map[int]bool // all versions that it has, or had
 	newest   int          // of these
 
-	flows    map[int]*flow // calls that are under way, by their numbers, which are their alarms'
-	started  int
+	flows   map[int]*flow // calls that are under way, by their numbers, which are their alarms'
+	started int
 	leasing []*flow // those that wait for a lease
-	alarms   *alarm.Alarms
+	alarms  *alarm.Alarms
 
 	attempts map[int]*attempt // that are its own, by their items
 	names    map[string]int   // their items
@@ -54,6 +54,7 @@ type Proxy struct {
 }
 
 // New is a proxy, with draws and an authority.
+// Its service is not kept: whose calls it makes changes nothing of what it does.
 func New(service int, d *draw.Draws, a *cert.Authority) *Proxy {
 	return &Proxy{
 		d: d, a: a, certs: map[int]api.Cert{}, versions: map[int]*version{}, had: map[int]bool{},

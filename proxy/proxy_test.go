@@ -280,6 +280,27 @@ func TestEjected(t *testing.T) {
 	}
 }
 
+func TestEjectedByWindow(t *testing.T) {
+	c := conf()
+	c.Watch = api.Watch{Errors: 100, Window: 20, Slow: 5, Share: 100, Base: 10, Top: 10}
+	p := made(t, c)
+	for id := 1; id <= 5; id++ {
+		p.Call(0, root(id, 100), "/", nil, 1)
+	}
+	for id := 1; id <= 5; id++ {
+		want(t, p.Answer(6, strconv.Itoa(id)+":1", api.OK, 0), "ends "+strconv.Itoa(id)+"; ")
+	}
+	want(t, p.Tick(19), "")
+	want(t, p.Tick(20), "ejects to1 service1; ")
+	// Two versions have guards of their own.
+	two, _ := snap.New(2, conf())
+	p.Apply(two)
+	if !slices.Equal(p.Well(1), []int{1}) || len(p.versions[1].part(1).guard.Well()) != 0 {
+		t.Error("well", p.Well(1))
+	}
+	want(t, p.Tick(30), "backs to1 service1; ")
+}
+
 func TestNobody(t *testing.T) {
 	c := conf()
 	c.Ends = c.Ends[:1]
