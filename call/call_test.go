@@ -149,6 +149,8 @@ func TestBeside(t *testing.T) {
 	want(t, c.Wake(20), sends(r, 3, 2), wakes(22))      // no more than Tries, but the next one is due still
 	want(t, c.Wake(22), wakes(60))
 	want(t, c.Answer(30, 2, api.OK, 0), drops(r, 3, 2, api.OK), ends(r, api.OK))
+	c = New(r, policy(50, 8, 5, 1), full())
+	want(t, c.Begin(0), sends(r, 1, 10), wakes(1))
 	// Both at once: what is due goes ahead, and nothing goes beside it.
 	c = New(r, policy(50, 8, 5, 10), full())
 	c.Begin(0)

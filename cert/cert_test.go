@@ -51,6 +51,10 @@ func TestCheck(t *testing.T) {
 	if !a.Revoke(1) || a.Revoke(1) || a.Revoke(0) || a.Revoke(3) || a.Revoke(-1) {
 		t.Error("revoke")
 	}
+	last := a.Issue(3, 10, 100)
+	if !a.Revoke(last.Serial) || a.Check(last, 3, 10) != api.ErrRevoke {
+		t.Error("the last one")
+	}
 	if a.Check(c, 3, 0) != api.ErrRevoke || a.Check(c, 4, 0) != api.ErrCert || a.Check(other, 3, 10) != api.OK {
 		t.Error("revoked")
 	}

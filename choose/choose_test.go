@@ -38,6 +38,12 @@ func TestByTwo(t *testing.T) {
 		}
 	}
 	d := draw.New(0, nil)
+	for range 20 {
+		if id, ok := Pick(api.ByTwo, r, []int{3, 4}, 7, []api.Load{{ID: 3, N: 5}, {ID: 4, N: 2}}, d); id != 4 || !ok {
+			t.Error("two", id)
+		}
+	}
+	d = draw.New(0, nil)
 	if id, ok := Pick(api.ByTwo, r, nil, 7, l, d); id != 0 || ok {
 		t.Error("none")
 	}

@@ -111,7 +111,7 @@ func TestShare(t *testing.T) {
 }
 
 func TestNames(t *testing.T) {
-	for name, want := range map[string]string{"7": "7", "7:1/0": "7/0", "7~:2/0:13/4": "7~/0/4", "7:12": "7", "": "", ":": "", "a:b1": "ab1", "é:1\xff": "é\xff"} {
+	for name, want := range map[string]string{"7": "7", "7:1/0": "7/0", "7~:2/0:13/4": "7~/0/4", "7:12": "7", "7:10/0": "7/0", "7:9/9": "7/9", "": "", ":": "", "a:b1": "ab1", "é:1\xff": "é\xff"} {
 		if got := Key(api.Ctx{Call: name, Try: 3}); got != want {
 			t.Error(name, got)
 		}

@@ -55,7 +55,7 @@ func TestTwo(t *testing.T) {
 		seen := map[[2]int]bool{}
 		for i := range n {
 			for j := range n - 1 {
-				d := New(0, []uint64{uint64(i), uint64(j)})
+				d := New(0, []uint64{uint64(i + 3*n), uint64(j + 5*(n-1))})
 				a, b := d.Two(n)
 				want := j
 				if j >= i {

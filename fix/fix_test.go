@@ -146,6 +146,10 @@ func TestFar(t *testing.T) {
 	if Far(0, 1, nil, 0) || Far(1, 2, [][2]int{{1, 2}, {2, 4}}, 0) || Far(1, 2, [][2]int{{0, 2}}, 0) {
 		t.Error("edges")
 	}
+	two := [][2]int{{1, 1}, {0, 1}} // the deviation is as great as the mean
+	if Far(0, 1, two, 10) || !Far(0, 1, two, 9) {
+		t.Error("just as far")
+	}
 	if !Far(1, 2001, [][2]int{{1, 1000}}, 0) { // 0 of 1000, for a share is rounded down
 		t.Error("share")
 	}

@@ -164,6 +164,10 @@ func TestAlone(t *testing.T) {
 			t.Error(i, n, ok)
 		}
 	}
+	c.Rules[2].Inject = api.Inject{Delay: 1, Ticks: 9}
+	if n, ok := Alone(c, "/c"); n != 34 || !ok {
+		t.Error(n, ok)
+	}
 	for _, path := range []string{"/none", "/b/c"} {
 		if n, ok := Alone(c, path); n != 0 || ok {
 			t.Error(path, n)

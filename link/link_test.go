@@ -67,6 +67,15 @@ func TestSend(t *testing.T) {
 	}
 }
 
+func TestEach(t *testing.T) {
+	l := New(1, []api.Fault{{Kind: api.Lose, From: 0, To: 3, A: 0, B: 1, N: 1}, {Kind: api.Double, From: 0, To: 9, A: 0, B: 1, N: 1}})
+	for now, want := range [][]int{nil, nil, nil, {4, 5}, {5, 6}} {
+		if got := l.Send(now, 1, 0); !slices.Equal(got, want) {
+			t.Error(now, got)
+		}
+	}
+}
+
 func TestOn(t *testing.T) {
 	l := []api.Fault{{Kind: api.Sick, From: 5, To: 9, A: 101, N: 2}, {Kind: api.Sick, From: 7, To: 12, A: 101, N: 3}, {Kind: api.Pause, From: 1, To: 2, A: 102}}
 	k := New(1, l)

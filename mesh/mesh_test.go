@@ -296,7 +296,10 @@ func TestPublish(t *testing.T) {
 		t.Error("15")
 	}
 	m.Run(30)
-	if m.proxies[4].Has(1) || len(m.Well(0, 1)) != 2 || len(m.Well(99, 1)) != 0 || len(m.Well(-1, 1)) != 0 {
+	if e := m.end(103); e == nil || e.cert.From != 11 || m.end(101).cert.From != 0 {
+		t.Error("endpoints")
+	}
+	if m.proxies[4].Has(1) || len(m.Well(0, 1)) != 2 || len(m.Well(99, 1)) != 0 || len(m.Well(11, 1)) != 0 || len(m.Well(-1, 1)) != 0 {
 		t.Error("dropped")
 	}
 	m.Run(100)
@@ -341,6 +344,27 @@ func TestResent(t *testing.T) {
 	}
 }
 
+func TestEndpoints(t *testing.T) {
+	c := two()
+	c.Ends = []api.End{{ID: 4, Service: 1, Zone: 2}, {ID: 3, Service: 2, Zone: 2}, {ID: 9, Service: 2, Zone: 1}, {ID: 2, Service: 1, Zone: 1}}
+	var l []api.Line
+	for id := 1; id < 9; id++ {
+		l = append(l, ask(id, 3*id))
+	}
+	m := made(t, c, l...)
+	for i, id := range []int{2, 3, 4, 9} {
+		if m.ends[i].id != id || m.ends[i].cert.Serial != i+1 {
+			t.Error("not made by rising IDs", id)
+		}
+	}
+	m.Run(99)
+	for _, e := range m.Events() {
+		if e.Kind == api.EvReach && e.Node != 102 && e.Node != 109 { // all stays in zone 1
+			t.Error(e)
+		}
+	}
+}
+
 func TestNacked(t *testing.T) {
 	// The version 2 comes to the proxy 3 behind the version 3: it is refused there, and never live.
 	m := made(t, two(), fault(api.Slow, 5, 6, 200, 3, 20), api.Line{Do: api.DoPublish, At: 5, C: two()}, api.Line{Do: api.DoPublish, At: 10, C: two()})
@@ -357,18 +381,18 @@ func TestRates(t *testing.T) {
 	c := two()
 	c.Rates = []api.Rate{{Limit: 2, Window: 50, Slice: 1}}
 	c.Rules[1].Rate = 1
-	m := made(t, c, ask(1, 1), ask(2, 3), ask(3, 51), fault(api.Forget, 101, 120, 201, 0, 0), ask(4, 110), ask(5, 148))
+	m := made(t, c, ask(1, 1), ask(2, 3), ask(3, 51), fault(api.Forget, 90, 120, 201, 0, 0), ask(4, 110), ask(5, 148))
 	m.Run(300)
 	wantAnswer(t, m, 1, api.OK, 16)
 	wantAnswer(t, m, 2, api.ErrFail, 30)
-	wantAnswer(t, m, 4, api.ErrFail, 137)
+	wantAnswer(t, m, 4, api.OK, 134)
 	var got [][3]int
 	for _, e := range m.Events() {
 		if e.Kind == api.EvAdmit {
 			got = append(got, [3]int{e.C.Req, e.At, e.N})
 		}
 	}
-	if !slices.Equal(got, [][3]int{{1, 6, 1}, {1, 6, 1}, {3, 56, 1}, {3, 56, 1}, {5, 153, 1}, {5, 153, 1}}) {
+	if !slices.Equal(got, [][3]int{{1, 6, 1}, {1, 6, 1}, {3, 56, 1}, {3, 56, 1}, {4, 124, 1}, {4, 124, 1}, {5, 153, 1}, {5, 153, 1}}) {
 		t.Error(got)
 	}
 }

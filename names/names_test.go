@@ -17,7 +17,7 @@ func TestDecimal(t *testing.T) {
 
 func TestRead(t *testing.T) {
 	for s, want := range map[string][2]int{
-		"7": {Call, 7}, "7~": {Call, 7}, "7~~": {Call, 7}, "7:1": {Attempt, 7}, "7~:1": {Attempt, 7}, "7:1/0": {Call, 7},
+		"7": {Call, 7}, "7~": {Call, 7}, "19": {Call, 19}, "9:90/99": {Call, 9}, "7~~": {Call, 7}, "7:1": {Attempt, 7}, "7~:1": {Attempt, 7}, "7:1/0": {Call, 7},
 		"7:1/0:2": {Attempt, 7}, "7:12/30~:4/5": {Call, 7}, "2147483647:2147483647/2147483647": {Call, 2147483647},
 	} {
 		if kind, req := Read(s); kind != want[0] || req != want[1] {

@@ -68,8 +68,7 @@ func TestExample(t *testing.T) {
 func TestRow(t *testing.T) {
 	g := New(watch(), []int{1, 2})
 	g.Note(0, 1, false, 0)
-	g.Note(0, 1, true, 3)
-	if g.Note(0, 1, false, 0) {
+	if g.Note(0, 1, true, 3) || g.Note(0, 1, false, 0) {
 		t.Error("not in a row")
 	}
 	if !g.Note(0, 1, false, 0) || g.Note(1, 2, false, 0) || g.Note(1, 2, false, 0) {
@@ -179,6 +178,24 @@ func TestSlow(t *testing.T) {
 	fill(g, 0, 3, 5, 5, 33)
 	if out, _ := g.Tick(100); !slices.Equal(out, []int{3}) {
 		t.Error("room", out)
+	}
+}
+
+func TestLeast(t *testing.T) {
+	w := watch()
+	w.Errors, w.Dev, w.Share = 100, 1, 100
+	g := New(w, []int{1, 2})
+	fill(g, 0, 1, 5, 5, 1)
+	fill(g, 0, 2, 4, 5, 1)
+	if out, _ := g.Tick(100); !slices.Equal(out, []int{2}) {
+		t.Error("a tenth of a deviation", out)
+	}
+	w.Dev, w.Slow = 0, 1
+	g = New(w, []int{1, 2})
+	fill(g, 0, 1, 1, 5, 2)
+	fill(g, 0, 2, 1, 5, 1)
+	if out, _ := g.Tick(100); !slices.Equal(out, []int{1}) {
+		t.Error("one that was well, and too slow", out)
 	}
 }
 

@@ -105,6 +105,9 @@ func TestVersions(t *testing.T) {
 	two, _ := snap.New(2, conf())
 	five, _ := snap.New(5, conf())
 	one, _ := snap.New(1, conf())
+	if fresh := New(0, p.d, p.a); fresh.Apply(five) != api.OK || fresh.Apply(two) != api.ErrOrder || fresh.Has(2) {
+		t.Error("order")
+	}
 	if p.Has(2) || !p.Has(1) || p.Apply(one) != api.ErrTwice || p.Apply(five) != api.OK || p.Apply(two) != api.ErrOrder || p.Apply(five) != api.ErrTwice {
 		t.Error("apply")
 	}
@@ -195,6 +198,10 @@ func TestInject(t *testing.T) {
 		t.Error("calls", p.Calls())
 	}
 	want(t, p.Tick(8), "sends 2:1 to1 service1; ")
+	c.Rules[0].Inject = api.Inject{Delay: 1, Ticks: 1}
+	p = made(t, c)
+	want(t, p.Call(0, root(1, 100), "/", nil, 1), "routes 1 service1; ")
+	want(t, p.Tick(1), "sends 1:1 to1 service1; ")
 	c.Rules[0].Inject = api.Inject{Delay: 1}
 	want(t, made(t, c).Call(0, root(1, 100), "/", nil, 1), "routes 1 service1; sends 1:1 to1 service1; ")
 }
@@ -243,6 +250,24 @@ func TestShed(t *testing.T) {
 	want(t, p.Answer(30, "4:1", api.ErrFail, 0), "ends 4 e35; ends 5 e32; ") // too late to be sent
 	if p.Waiting(1) != 0 || len(p.attempts) != 0 || p.versions[1].part(1).gate.Under() != 0 {
 		t.Error("waiting", p.Waiting(1))
+	}
+}
+
+func TestLimitTold(t *testing.T) {
+	c := conf()
+	c.Low, c.High, c.Wait = 1, 4, 9
+	p := made(t, c)
+	for i, x := range []struct {
+		e    api.Errno
+		want int
+	}{{api.OK, 2}, {api.OK, 2}, {api.ErrLate, 2}, {api.ErrDown, 2}, {api.ErrFull, 1}, {api.OK, 2}, {api.ErrFail, 1}} {
+		id := strconv.Itoa(i + 1)
+		p.Call(9*i, root(i+1, 9*i+8), "/", nil, 1)
+		p.Answer(9*i+5, id+":1", x.e, 0)
+		if got := p.versions[1].part(1).gate.Limit(); got != x.want {
+			t.Error(i, got)
+		}
+		p.Tick(9*i + 8)
 	}
 }
 

@@ -46,6 +46,9 @@ func TestMint(t *testing.T) {
 			t.Error(x, got)
 		}
 	}
+	if l.Move("1", "1:1", 3) != api.OK || l.Move("1:1", "1", 3) != api.OK {
+		t.Error("request 1")
+	}
 	if l.Left("1") != 1<<31-1 || l.Left("2147483647") != 0 {
 		t.Error("left")
 	}

@@ -131,6 +131,7 @@ func TestCheck(t *testing.T) {
 		{[]api.Line{ask(1, 0), bad, with(func(r *api.Request) { r.ID = 1; r.At = -1 })}, 2, api.ErrTwice},
 		{[]api.Line{with(func(r *api.Request) { r.At = -1; r.Path = "" })}, 0, api.ErrRange},
 		{[]api.Line{with(func(r *api.Request) { r.At = 20001 })}, 0, api.ErrRange},
+		{[]api.Line{with(func(r *api.Request) { r.Life = 1; r.Purse = 0 }), {Do: api.DoRotate}}, 0, api.OK},
 		{[]api.Line{with(func(r *api.Request) { r.Life = 0 })}, 0, api.ErrRange},
 		{[]api.Line{with(func(r *api.Request) { r.Life = 10001 })}, 0, api.ErrRange},
 		{[]api.Line{with(func(r *api.Request) { r.Life = 10000; r.Purse = 64; r.Prio = -99 })}, 0, api.OK},

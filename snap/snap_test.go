@@ -107,7 +107,7 @@ func TestBounds(t *testing.T) {
 		{func(c *api.Conf) *int { return &c.Ends[0].Service }, 1, 2, api.ErrEnd},
 		{func(c *api.Conf) *int { return &c.Ends[0].Zone }, 1, 4, api.ErrEnd},
 		{func(c *api.Conf) *int { return &c.Rates[0].Window }, 1, 1000, api.ErrRate},
-		{func(c *api.Conf) *int { return &c.Rates[0].Limit }, 2, 1000, api.ErrRate},
+		{func(c *api.Conf) *int { c.Rates[0].Slice = 1; return &c.Rates[0].Limit }, 1, 1000, api.ErrRate},
 		{func(c *api.Conf) *int { return &c.Rates[0].Slice }, 1, 5, api.ErrRate},
 		{func(c *api.Conf) *int { return &c.Watch.Base }, 1, 100, api.ErrRange},
 		{func(c *api.Conf) *int { return &c.Panic }, 0, 100, api.ErrRange},
@@ -154,6 +154,25 @@ func TestServices(t *testing.T) {
 		if got := Check(c); got != api.ErrService {
 			t.Error(i, got)
 		}
+	}
+}
+
+func TestFewServices(t *testing.T) {
+	c := conf()
+	c.Services[0].Kids = []string{"/", "/", "/", "/"}
+	if Check(c) != api.OK {
+		t.Error("four kids")
+	}
+	c.Services, c.Ends = c.Services[1:], c.Ends[1:2]
+	c.Rules[0].Parts = []api.Part{{Service: 2, Weight: 1}}
+	if Check(c) != api.OK {
+		t.Error("2 alone", Check(c))
+	}
+	if c.Rules[0].Mirror = 1; Check(c) != api.ErrService {
+		t.Error("1 is not there")
+	}
+	if c.Rules[0].Mirror = 0; Check(c) != api.OK {
+		t.Error("no copies")
 	}
 }
 
