@@ -27,15 +27,15 @@ func Check(l []api.Part) api.Errno {
 	return api.OK
 }
 
-// ends hands out parts, each with its weight and those ahead of it together.
-func ends(l []api.Part) iter.Seq2[int, api.Part] {
+// behind hands out parts, each with the weights ahead of it together.
+func behind(l []api.Part) iter.Seq2[int, api.Part] {
 	return func(yield func(int, api.Part) bool) {
-		end := 0
+		ahead := 0
 		for _, p := range l {
-			end += p.Weight
-			if !yield(end, p) {
+			if !yield(ahead, p) {
 				return
 			}
+			ahead += p.Weight
 		}
 	}
 }
@@ -43,8 +43,8 @@ func ends(l []api.Part) iter.Seq2[int, api.Part] {
 // Sum is all weights.
 func Sum(l []api.Part) int {
 	sum := 0
-	for end := range ends(l) {
-		sum = end
+	for ahead, p := range behind(l) {
+		sum = ahead + p.Weight
 	}
 	return sum
 }
@@ -56,8 +56,8 @@ func Pick(l []api.Part, draw uint64) int {
 		return 0
 	}
 	rest := int(draw % uint64(sum))
-	for end, p := range ends(l) {
-		if end > rest {
+	for ahead, p := range behind(l) {
+		if ahead+p.Weight > rest {
 			return p.Service
 		}
 	}
