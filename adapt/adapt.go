@@ -1,6 +1,10 @@
 // Package adapt is layer 21: how many may be under way.
 package adapt
 
+import (
+	"math"
+)
+
 const late = 4 // times the base: what takes longer is bad
 
 // Limit is how many may be under way at once.
@@ -23,7 +27,12 @@ func (l *Limit) Done(now, under, took int, well bool) {
 		l.base = took
 	}
 	becomes := map[bool]func(now, under int){true: l.rise, false: l.fall}
-	becomes[well && took <= late*l.base](now, under)
+	becomes[well && !l.tooLong(took)](now, under)
+}
+
+// tooLong tells whether one took too long; where late times the base is more than an int holds, nothing does.
+func (l *Limit) tooLong(took int) bool {
+	return l.base <= math.MaxInt/late && took > late*l.base
 }
 
 func (l *Limit) rise(now, under int) {
@@ -34,12 +43,15 @@ func (l *Limit) rise(now, under int) {
 
 // fall cuts the limit, but not twice for what was under way together.
 func (l *Limit) fall(now, under int) {
-	if l.cut && now < l.cutAt+l.base {
+	if l.cut && now-l.cutAt < l.base {
 		return
 	}
 	l.cut, l.cutAt = true, now
-	l.now = max(l.low, 3*l.now/4)
+	l.now = max(l.low, l.now-quarter(l.now))
 }
+
+// quarter is the quarter of a limit that a cut takes, rounded up, so that what stays is rounded down.
+func quarter(n int) int { return n/4 + (n%4+3)/4 }
 
 // Base is the least time that one took; 0: none did.
 func (l *Limit) Base() int { return l.base }

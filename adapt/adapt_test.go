@@ -126,3 +126,17 @@ func TestBounds(t *testing.T) {
 		}
 	}
 }
+
+// TestCut: three quarters, rounded down, whatever the limit is.
+func TestCut(t *testing.T) {
+	for high := 1; high <= 1000; high++ {
+		l := New(1, high)
+		for range high {
+			l.Done(0, high, 1, true)
+		}
+		was := l.Now()
+		if l.Done(0, high, 1, false); was != high || l.Now() != max(1, 3*high/4) {
+			t.Error(high, was, l.Now())
+		}
+	}
+}

@@ -1,6 +1,7 @@
 package admit
 
 import (
+	"math"
 	"math/rand"
 	"slices"
 	"testing"
@@ -140,5 +141,35 @@ func TestAll(t *testing.T) {
 			}
 		}
 		check()
+	}
+}
+
+// TestGreatest: a gate's bounds have none themselves.
+func TestGreatest(t *testing.T) {
+	for _, low := range []int{math.MaxInt, math.MaxInt - 1, math.MaxInt/3 + 1, 1 << 62} {
+		g := New(low, math.MaxInt, math.MaxInt)
+		for id := range 3 {
+			if what, _, _ := g.Enter(api.Item{ID: id}); what != Runs {
+				t.Error(low, what)
+			}
+		}
+		for id, well := range []bool{false, true, false} {
+			if g.Done(id, id, 1, well); g.Limit() != low {
+				t.Error(low, id, g.Limit())
+			}
+		}
+	}
+	g := New(1, 9, 9)
+	g.Enter(api.Item{ID: 1})
+	if g.Done(0, 1, math.MaxInt, true); g.Limit() != 2 {
+		t.Error("nothing took less", g.Limit())
+	}
+	g.Enter(api.Item{ID: 2})
+	g.Enter(api.Item{ID: 3})
+	if g.Done(0, 2, math.MaxInt/4, true); g.Limit() != 3 {
+		t.Error("the base is less", g.Limit())
+	}
+	if g.Done(0, 3, math.MaxInt, true); g.Limit() != 2 {
+		t.Error("more than 4 times the base", g.Limit())
 	}
 }

@@ -4,6 +4,7 @@ package audit
 import (
 	"cmp"
 	"maps"
+	"math"
 	"slices"
 
 	"pursebearer/api"
@@ -122,7 +123,25 @@ func Calm(c api.Conf) int {
 			work = s.Work
 		}
 	}
-	return 20*work + c.Watch.Window + c.Watch.Top + 4*c.Hop + 1000
+	return total([2]int{20, work}, [2]int{1, c.Watch.Window}, [2]int{1, c.Watch.Top}, [2]int{4, c.Hop}, [2]int{1, 1000})
+}
+
+// total is all numbers together, each (the second one) so many times as is said ahead of it, or the int that is nearest to that: a configuration may be any.
+func total(l ...[2]int) int {
+	const half = 32 // bits: each number is reckoned in two parts, so that their sums are ints
+	high, low := 0, 0
+	for _, x := range l {
+		high += x[0] * (x[1] >> half)
+		low += x[0] * (x[1] & (1<<half - 1))
+	}
+	high += low >> half
+	switch {
+	case high > math.MaxInt32:
+		return math.MaxInt
+	case high < math.MinInt32:
+		return math.MinInt
+	}
+	return high<<half | low&(1<<half-1)
 }
 
 // Good is how many requests that came from a tick on were answered well, and how many there were.

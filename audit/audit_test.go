@@ -1,6 +1,7 @@
 package audit
 
 import (
+	"math"
 	"math/rand"
 	"slices"
 	"testing"
@@ -139,6 +140,25 @@ func TestRow(t *testing.T) {
 			if len(Torn(l[:i])) > len(Torn(l)) || len(Late(l[:i])) > len(Late(l)) {
 				t.Fatal("less")
 			}
+		}
+	}
+}
+
+// TestCalmOfAny: a configuration that Calm is handed may be any; what is no int is as near to it as an int may be.
+func TestCalmOfAny(t *testing.T) {
+	of := func(work, window, top, hop int) int {
+		return Calm(api.Conf{Hop: hop, Watch: api.Watch{Window: window, Top: top}, Services: []api.Service{{Work: math.MinInt}, {Work: work}}})
+	}
+	for _, x := range [][5]int{ // Work, Window, Top, Hop, what is told
+		{math.MaxInt, 0, 0, 0, math.MaxInt}, {1 << 60, 0, 0, 0, math.MaxInt}, {0, math.MaxInt, 0, 0, math.MaxInt},
+		{0, math.MaxInt - 1000, 0, 0, math.MaxInt}, {0, math.MaxInt - 1001, 0, 0, math.MaxInt - 1}, {0, math.MaxInt - 999, -1, 0, math.MaxInt},
+		{0, 0, 0, math.MaxInt, math.MaxInt}, {0, 0, 0, 1 << 62, math.MaxInt}, {0, 0, math.MaxInt, -1, math.MaxInt},
+		{math.MinInt, 0, 0, 0, math.MinInt}, {0, math.MinInt, 0, 0, math.MinInt + 1000}, {0, math.MinInt, -1000, 0, math.MinInt}, {0, math.MinInt, -1001, 0, math.MinInt},
+		{1 << 59, 0, 0, -1 << 61, 1<<61 + 1000}, {math.MaxInt, math.MinInt, math.MinInt, math.MinInt, math.MaxInt},
+		{1 << 40, -1 << 33, 1 << 32, -1, 20<<40 - 1<<33 + 1<<32 - 4 + 1000}, {-1 << 40, 5, 6, 7, -20<<40 + 11 + 28 + 1000},
+	} {
+		if got := of(x[0], x[1], x[2], x[3]); got != x[4] {
+			t.Error(x, got)
 		}
 	}
 }

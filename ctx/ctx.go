@@ -2,13 +2,13 @@
 package ctx
 
 import (
+	"math"
 	"strconv"
 	"strings"
 
 	"pursebearer/api"
 	"pursebearer/fix"
 	"pursebearer/names"
-	"pursebearer/purse"
 )
 
 // Check tells how a call is wrong.
@@ -50,21 +50,29 @@ func Try(c api.Ctx, n, purse int) api.Ctx {
 func Kid(c api.Ctx, i, n, hop int) api.Ctx {
 	c.Call = Span(c) + "/" + strconv.Itoa(i)
 	c.Try = 0
-	c.Deadline -= hop
+	c.Deadline = ahead(c.Deadline, hop)
 	c.Purse = share(c.Purse, i, n)
 	return c
 }
 
-// share is the i-th part of an allowance that is dealt to so many.
+// ahead is the tick that is so many ahead of another one; the least int, where that would be less still, for a deadline does not rise.
+func ahead(at, ticks int) int {
+	if ticks > 0 && at < math.MinInt+ticks {
+		return math.MinInt
+	}
+	return at - ticks
+}
+
+// share is the i-th part of an allowance that is dealt to so many, as by package purse's Split; the others are not reckoned, for how many they are, and how much is dealt, has no bound here.
 func share(n, i, kids int) int {
 	if i < 0 || i >= kids || n < 1 {
 		return 0
 	}
-	// To more than there is to deal each gets 1 or nothing, however many they are.
-	if i >= n && kids > n {
-		return 0
+	part := n / kids
+	if i < n%kids {
+		part++
 	}
-	return purse.Split(n, min(kids, n+1))[i]
+	return part
 }
 
 // Copy is a call's copy, that spends nothing and takes no effect.

@@ -1,6 +1,7 @@
 package ctx
 
 import (
+	"math"
 	"math/rand"
 	"testing"
 
@@ -162,6 +163,49 @@ func TestRight(t *testing.T) {
 			if c = next; r.Intn(4) == 0 {
 				c = Copy(c)
 			}
+		}
+	}
+}
+
+// TestShareOfAny: Kid bounds neither the allowance nor how many it is dealt to.
+func TestShareOfAny(t *testing.T) {
+	for _, x := range [][4]int{ // allowance, of so many, the part, what that is
+		{math.MaxInt, 1, 0, math.MaxInt}, {math.MaxInt, 1, 1, 0}, {math.MaxInt, 1, -1, 0},
+		{math.MaxInt, 2, 0, 1 << 62}, {math.MaxInt, 2, 1, 1<<62 - 1}, {math.MaxInt, 2, 2, 0},
+		{math.MaxInt - 1, 4, 1, 1 << 61}, {math.MaxInt - 1, 4, 2, 1<<61 - 1},
+		{math.MaxInt, math.MaxInt, math.MaxInt - 1, 1}, {math.MaxInt, math.MaxInt, math.MaxInt, 0},
+		{math.MaxInt - 1, math.MaxInt, math.MaxInt - 2, 1}, {math.MaxInt - 1, math.MaxInt, math.MaxInt - 1, 0},
+		{1 << 40, 1 << 40, 1<<40 - 1, 1}, {1 << 40, 1 << 39, 7, 2}, {1 << 40, 1<<40 - 1, 0, 2}, {1 << 40, 1<<40 - 1, 1, 1},
+		{math.MinInt, 1, 0, 0}, {math.MaxInt, 0, 0, 0}, {math.MaxInt, math.MinInt, 0, 0},
+	} {
+		if got := Kid(api.Ctx{Req: 7, Call: "7", Try: 1, Purse: x[0]}, x[2], x[1], 0).Purse; got != x[3] {
+			t.Error(x, got)
+		}
+	}
+	r := rand.New(rand.NewSource(2))
+	for range 2000 {
+		n, kids := int(r.Uint64()>>1)>>r.Intn(63), 1+r.Intn(1000)
+		sum := 0
+		for i, want := range purse.Split(n, kids) {
+			got := Kid(api.Ctx{Purse: n}, i, kids, 0).Purse
+			if sum += got; got != want {
+				t.Fatal(n, kids, i, got, want)
+			}
+		}
+		if sum != n {
+			t.Fatal("made", n, kids, sum)
+		}
+	}
+}
+
+// TestKidLongPast: however long ago a deadline was, that of a call that is made then is no later.
+func TestKidLongPast(t *testing.T) {
+	for _, x := range [][3]int{
+		{math.MinInt, 0, math.MinInt}, {math.MinInt, 1, math.MinInt}, {math.MinInt + 9999, 10000, math.MinInt},
+		{math.MinInt + 10000, 10000, math.MinInt}, {math.MinInt + 10001, 10000, math.MinInt + 1}, {math.MaxInt, 10000, math.MaxInt - 10000}, {-5, 3, -8},
+	} {
+		if got := Kid(api.Ctx{Deadline: x[0]}, 0, 1, x[1]).Deadline; got != x[2] {
+			t.Error(x, got)
 		}
 	}
 }

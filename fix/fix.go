@@ -2,6 +2,7 @@
 package fix
 
 import (
+	"cmp"
 	"math/bits"
 
 	"pursebearer/api"
@@ -67,7 +68,7 @@ func Root(n int) int {
 // Cmp compares a/b with c/d: -1, 0, 1.
 func Cmp(a, b, c, d int) int {
 	if a < 0 && c < 0 {
-		return cmpSizes(size(c), uint64(b), size(a), uint64(d))
+		return product(size(c), uint64(b)).cmp(product(size(a), uint64(d)))
 	}
 	if a < 0 {
 		return -1
@@ -75,23 +76,34 @@ func Cmp(a, b, c, d int) int {
 	if c < 0 {
 		return 1
 	}
-	return cmpSizes(uint64(a), uint64(d), uint64(c), uint64(b))
+	return product(uint64(a), uint64(d)).cmp(product(uint64(c), uint64(b)))
 }
 
 // size is how far a number below 0 is from it; the least int has one, too, which no int holds.
 func size(n int) uint64 { return -uint64(n) }
 
-// cmpSizes compares the products a times b and c times d.
-func cmpSizes(a, b, c, d uint64) int {
+// wide is a number of 128 bits.
+type wide struct{ high, low uint64 }
+
+func product(a, b uint64) wide {
 	high, low := bits.Mul64(a, b)
-	high2, low2 := bits.Mul64(c, d)
-	switch {
-	case high < high2 || high == high2 && low < low2:
-		return -1
-	case high == high2 && low == low2:
-		return 0
-	}
-	return 1
+	return wide{high, low}
+}
+
+// times is a number, so many times; it has to be one of 128 bits still.
+func (w wide) times(n uint64) wide {
+	p := product(w.low, n)
+	return wide{p.high + w.high*n, p.low}
+}
+
+// minus is a number, less another one that is no greater.
+func (w wide) minus(v wide) wide {
+	low, borrow := bits.Sub64(w.low, v.low, 0)
+	return wide{w.high - v.high - borrow, low}
+}
+
+func (w wide) cmp(v wide) int {
+	return cmp.Or(cmp.Compare(w.high, v.high), cmp.Compare(w.low, v.low))
 }
 
 // Sum is all together, at most api.Most.
@@ -115,10 +127,14 @@ func Far(good, all int, l [][2]int, tenths int) bool {
 		sum += s
 		squares += s * s
 	}
-	// All is held n times as great as it is, and squared, so that nothing is rounded.
+	// All is held n times as great as it is, and squared, so that nothing is rounded; in 128 bits, for a guard may have so many endpoints that 64 are too few.
 	n := len(l)
 	below := sum - n*share(good, all)
-	return below > 0 && 100*below*below > tenths*tenths*(n*squares-sum*sum)
+	if below <= 0 {
+		return false
+	}
+	most := product(uint64(n), uint64(squares)).minus(product(uint64(sum), uint64(sum))).times(uint64(tenths * tenths))
+	return product(uint64(10*below), uint64(10*below)).cmp(most) > 0
 }
 
 // share is how many of a thousand are good.

@@ -186,3 +186,54 @@ func TestFarFew(t *testing.T) {
 		t.Error("long")
 	}
 }
+
+// farByBig is Far, reckoned by numbers without bounds.
+func farByBig(good, all int, l [][2]int, tenths int) bool {
+	sum, squares := new(big.Int), new(big.Int)
+	for _, x := range l {
+		s := big2(x[0] * 1000 / x[1])
+		sum.Add(sum, s)
+		squares.Add(squares, new(big.Int).Mul(s, s))
+	}
+	n := big2(len(l))
+	below := new(big.Int).Sub(sum, new(big.Int).Mul(n, big2(good*1000/all)))
+	most := new(big.Int).Sub(new(big.Int).Mul(n, squares), new(big.Int).Mul(sum, sum))
+	most.Mul(most, big2(tenths*tenths))
+	return below.Sign() > 0 && new(big.Int).Mul(big2(100), below.Mul(below, below)).Cmp(most) > 0
+}
+
+func TestFarExact(t *testing.T) {
+	r := rand.New(rand.NewSource(6))
+	for range 3000 {
+		l := make([][2]int, 1+r.Intn(40))
+		for i := range l {
+			all := 1 + r.Intn(1<<31-1)>>r.Intn(31)
+			l[i] = [2]int{r.Intn(all + 1), all}
+		}
+		x, tenths := l[r.Intn(len(l))], r.Intn(1001)>>r.Intn(10)
+		if Far(x[0], x[1], l, tenths) != farByBig(x[0], x[1], l, tenths) {
+			t.Fatal(x, l, tenths)
+		}
+	}
+}
+
+// TestFarOfMany: chapter 14 lets a guard have as many endpoints as it likes, and holds each against all.
+func TestFarOfMany(t *testing.T) {
+	half := make([][2]int, 61000)
+	for i := range half {
+		half[i] = [2]int{i % 2, 1}
+	}
+	one := make([][2]int, 400000)
+	for i := range one {
+		one[i] = [2]int{min(i, 1), 1}
+	}
+	for i, x := range []struct {
+		l      [][2]int
+		tenths int
+		want   bool
+	}{{half, 9, true}, {half, 10, false}, {half, 100, false}, {half, 1000, false}, {one, 10, true}, {one, 100, true}, {one, 1000, true}} {
+		if Far(0, 1, x.l, x.tenths) != x.want || farByBig(0, 1, x.l, x.tenths) != x.want || Far(1, 1, x.l, x.tenths) {
+			t.Error(i)
+		}
+	}
+}

@@ -2,6 +2,8 @@
 package lease
 
 import (
+	"math"
+
 	"pursebearer/api"
 )
 
@@ -67,7 +69,8 @@ func (c *Client) Use(now int) bool {
 // Give gives it a lease.
 func (c *Client) Give(now, n int) {
 	c.turn(now)
-	c.count += n
+	// A proxy is handed leases of any size, so that all of them together may be more than an int holds.
+	c.count += min(n, math.MaxInt-c.count)
 }
 
 // Error is how many fewer than an exact limiter admits there may be in a window, by so many clients; forgot: whether the limiter forgot in it.

@@ -1,6 +1,7 @@
 package mesh
 
 import (
+	"math"
 	"slices"
 	"testing"
 
@@ -178,6 +179,21 @@ func TestAllCut(t *testing.T) {
 	wantAnswer(t, m, 1, api.ErrLate, 65)
 	if count(m, api.EvReach) != 0 {
 		t.Error("reached")
+	}
+}
+
+// TestGreatest: a request may ask for as much as an int tells, and a configuration that is published may say anything.
+func TestGreatest(t *testing.T) {
+	x := ask(1, 5)
+	x.R.Life, x.R.Purse = math.MaxInt, math.MaxInt
+	c, odd := two(), two()
+	c.Rules[0].P.Timeout = 400
+	odd.Ends = append(odd.Ends, api.End{ID: math.MaxInt, Service: math.MaxInt, Zone: math.MinInt}, api.End{ID: math.MinInt})
+	m := made(t, c, api.Line{Do: api.DoPublish, At: 1, C: odd}, x, fault(api.Cut, 0, api.MaxTime, 0, -1, 0))
+	m.Run(300)
+	wantAnswer(t, m, 1, api.ErrLate, 205)
+	if held, spent := m.Purse(1); held+spent != 8 || m.plane.Live() != 1 {
+		t.Error(held, spent, m.plane.Live())
 	}
 }
 

@@ -1,6 +1,7 @@
 package proxy
 
 import (
+	"math"
 	"slices"
 	"strconv"
 	"testing"
@@ -228,6 +229,21 @@ func TestRate(t *testing.T) {
 	p.Drop(1)
 	want(t, p.Lease(12, 1, 1, 3), "admits 3 n1; sends 3:1 to2 service2; ")
 	want(t, p.Lease(13, 1, 1, 3), "")
+}
+
+// TestGreatLeases: a lease may be any number, and come again.
+func TestGreatLeases(t *testing.T) {
+	c := conf()
+	c.Rates = []api.Rate{{Limit: 9, Window: 50, Slice: 3}}
+	c.Rules[0].Rate = 1
+	p := made(t, c)
+	for _, n := range []int{math.MaxInt, math.MaxInt, 2} {
+		want(t, p.Lease(0, 1, 1, n), "")
+	}
+	for id := 1; id < 5; id++ {
+		n := strconv.Itoa(id)
+		want(t, p.Call(0, root(id, 100), "/", nil, 1), "routes "+n+" service1; admits "+n+" n1; sends "+n+":1 to1 service1; ")
+	}
 }
 
 func TestShed(t *testing.T) {

@@ -2,6 +2,8 @@
 package server
 
 import (
+	"math"
+
 	"pursebearer/api"
 	"pursebearer/ctx"
 	"pursebearer/dedup"
@@ -99,10 +101,18 @@ func (s *Server) Step(now int, paused bool, sick, lazy int) []Out {
 			outs = append(outs, Out{What: Failed, C: c, E: api.ErrLate})
 			continue
 		}
-		s.works = append(s.works, work{c, s.s.Work * lazy})
+		s.works = append(s.works, work{c, times(s.s.Work, lazy)})
 		outs = append(outs, Out{What: Began, C: c})
 	}
 	return outs
+}
+
+// times is so many ticks, so many times; the greatest int, where that would be more still: neither ever goes by.
+func times(ticks, n int) int {
+	if n > 0 && ticks > math.MaxInt/n {
+		return math.MaxInt
+	}
+	return ticks * n
 }
 
 // work works for a tick at all at which it works.

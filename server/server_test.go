@@ -1,6 +1,7 @@
 package server
 
 import (
+	"math"
 	"math/rand"
 	"slices"
 	"strconv"
@@ -259,5 +260,40 @@ func TestOnce(t *testing.T) {
 				t.Fatal("waits", s.Waiting(), s.Working())
 			}
 		}
+	}
+}
+
+// TestLong: Work, and lazy, may be any numbers from 1 on; their product may be none.
+func TestLong(t *testing.T) {
+	for _, l := range [][2]int{{1 << 62, 4}, {1 << 62, 2}, {3, math.MaxInt}, {math.MaxInt, 3}, {math.MaxInt, 1}, {1, math.MaxInt}, {math.MaxInt, math.MaxInt}, {1 << 32, 1 << 32}} {
+		x := one()
+		x.Work = l[0]
+		s := New(x, dedup.New(100))
+		s.Come(0, try(1, 1))
+		for now := range 20 {
+			for _, o := range s.Step(now, false, 0, l[1]) {
+				if o.What != Began || now > 0 {
+					t.Fatal(l, now, o)
+				}
+			}
+		}
+		if s.Working() != 1 {
+			t.Error(l, "works no more")
+		}
+	}
+	x := one()
+	x.Work, x.Slots, x.Queue, x.Warm = 2, math.MaxInt, math.MaxInt, math.MaxInt
+	s := New(x, dedup.New(100))
+	s.Come(0, try(1, 1))
+	s.Step(0, false, math.MaxInt, 3)
+	for now := 1; now <= 6; now++ {
+		if got := s.Step(now, false, math.MaxInt, 1); (len(got) == 1) != (now == 6) {
+			t.Error(now, got)
+		}
+	}
+	s.Crash(7)
+	s.Up(8)
+	if s.Slots(8) != 1 || s.Slots(api.MaxTime) != 1 {
+		t.Error("slots")
 	}
 }

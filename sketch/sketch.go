@@ -3,6 +3,7 @@ package sketch
 
 import (
 	"maps"
+	"math"
 	"math/bits"
 	"slices"
 
@@ -27,16 +28,20 @@ func New() *Sketch { return &Sketch{counts: map[int]int{}} }
 func (s *Sketch) Add(n int) { s.put(Bucket(n), 1) }
 
 func (s *Sketch) put(bucket, count int) {
-	s.counts[bucket] += count
-	s.all += count
+	s.counts[bucket] = sum(s.counts[bucket], count)
+	s.all = sum(s.all, count)
 }
+
+// sum is both together; the greatest int, where that would be more still: what is joined with itself doubles, and needs few steps for that.
+func sum(a, b int) int { return a + min(b, math.MaxInt-a) }
 
 // Len is how many there are.
 func (s *Sketch) Len() int { return s.all }
 
 // At is a number such that so many of a thousand are no greater.
 func (s *Sketch) At(permil int) int {
-	left := max(1, fix.Up(s.all*permil, 1000))
+	// Thousands and the rest apart: all of them times permil may be more than an int holds.
+	left := max(1, s.all/1000*permil+fix.Up(s.all%1000*permil, 1000))
 	reached := func(bucket int) bool {
 		left -= s.counts[bucket]
 		return left <= 0

@@ -1,6 +1,7 @@
 package sketch
 
 import (
+	"math"
 	"math/rand"
 	"slices"
 	"testing"
@@ -93,5 +94,40 @@ func TestJoin(t *testing.T) {
 		if a.Len() != was {
 			t.Fatal("shared")
 		}
+	}
+}
+
+// TestDoubled: what is joined with itself doubles, and so becomes great in few steps.
+func TestDoubled(t *testing.T) {
+	s := New()
+	for _, n := range []int{3, 5, 5, 20} {
+		s.Add(n)
+	}
+	at := func(permil, want int) {
+		t.Helper()
+		if got := s.At(permil); got != want {
+			t.Error(s.Len(), permil, got, want)
+		}
+	}
+	for n := 4; n > 0; n *= 2 { // as long as an int tells how many there are
+		if s.Len() != n {
+			t.Fatal(s.Len(), n)
+		}
+		at(0, 3)
+		at(250, 3)
+		at(251, 5)
+		at(500, 5)
+		at(750, 5)
+		at(751, 21)
+		at(1000, 21)
+		s = s.Join(s)
+	}
+	s = s.Join(s)
+	if s.Len() != math.MaxInt || s.Join(New()).Len() != math.MaxInt || New().Join(s).Len() != math.MaxInt {
+		t.Error("more than an int", s.Len())
+	}
+	s.Add(3)
+	if at(0, 3); s.Len() != math.MaxInt || s.At(1000) < 3 || s.At(1000) > 21 {
+		t.Error("one more", s.Len())
 	}
 }
